@@ -1,0 +1,1 @@
+"""Rungbounds: walls of unknown shape, known by ladders that reach or miss."""

@@ -1,0 +1,104 @@
+"""The opening paragraphs of the interface: every name and parameter as it is written."""
+
+import importlib
+import inspect
+import unittest
+
+# For each module its functions and classes, and for each class its methods, with parameters.
+FUNCTIONS = {
+    "ladders": {
+        "reach": "(length, foot=0)",
+        "farthest_foot": "(length, height)",
+        "joined_length": "(*lengths)",
+    },
+}
+
+CLASSES = {
+    "errors": {
+        "LadderError": {},
+        "BadNumber": {"__init__": "(self, value)"},
+        "BadName": {"__init__": "(self, name)"},
+        "TakenName": {"__init__": "(self, name)"},
+        "UnknownName": {"__init__": "(self, name)"},
+        "NoPlace": {"__init__": "(self, place)"},
+        "TooMany": {"__init__": "(self, count)"},
+        "NoSite": {"__init__": "(self, ring)"},
+        "NoShape": {"__init__": "(self, blames)"},
+        "OtherSite": {},
+        "BadState": {"__init__": "(self, state)"},
+        "BadLine": {"__init__": "(self, line)"},
+        "NothingToUndo": {},
+        "NothingToRedo": {},
+        "DeedFailed": {"__init__": "(self, row)"},
+    },
+    "ladders": {
+        "Ladder": {
+            "__init__": "(self, length, parts=1)",
+            "__add__": "(self, other)",
+            "__eq__": "(self, other)",
+            "__lt__": "(self, other)",
+            "__repr__": "(self)",
+            "__call__": "(self, foot=0)",
+        },
+        "Rack": {
+            "__init__": "(self, **lengths)",
+            "put": "(self, name, length)",
+            "names": "(self)",
+            "length_of": "(self, name)",
+            "joined": "(self, *names)",
+            "lengths": "(self, most=1)",
+            "names_for": "(self, length, most=1)",
+            "__len__": "(self)",
+            "__contains__": "(self, name)",
+        },
+    },
+    "sites": {
+        "Site": {
+            "__init__": "(self, walls, links=())",
+            "plain": "(count, top, slope)",
+            "walls": "(self)",
+            "links": "(self)",
+            "names": "(self)",
+            "place_of": "(self, name, index)",
+            "spot_of": "(self, place)",
+            "top_of": "(self, place)",
+            "told": "(self, first, second)",
+            "limit": "(self, first, second)",
+            "chain": "(self, first, second)",
+            "fits": "(self, heights)",
+        },
+    },
+}
+
+
+def module_of(name):
+    return importlib.import_module("rungbounds." + name)
+
+
+class InterfaceTest(unittest.TestCase):
+    def test_functions(self):
+        for file, functions in FUNCTIONS.items():
+            for name, signature in functions.items():
+                with self.subTest(file=file, name=name):
+                    function = getattr(module_of(file), name)
+                    self.assertTrue(inspect.isfunction(function))
+                    self.assertEqual(function.__module__, "rungbounds." + file)
+                    self.assertEqual(str(inspect.signature(function)), signature)
+
+    def test_classes(self):
+        for file, classes in CLASSES.items():
+            for name, methods in classes.items():
+                kind = getattr(module_of(file), name)
+                self.assertTrue(inspect.isclass(kind))
+                self.assertEqual(kind.__module__, "rungbounds." + file)
+                for method, signature in methods.items():
+                    with self.subTest(file=file, name=name, method=method):
+                        self.assertIn(method, vars(kind))
+                        self.assertEqual(str(inspect.signature(getattr(kind, method))), signature)
+
+    def test_class_method(self):
+        self.assertIsInstance(vars(module_of("sites").Site)["plain"], classmethod)
+
+
+if __name__ == "__main__":
+    unittest.main()
