@@ -60,12 +60,12 @@ class Site:
 
     def spot_of(self, place):
         """Return the name of the wall of a place, and the index of the place in it."""
-        self._check_place(place)
+        self.check_place(place)
         return self._spots[place]
 
     def top_of(self, place):
         """Return the top of the wall of a place."""
-        self._check_place(place)
+        self.check_place(place)
         return self._tops[place]
 
     def told(self, first, second):
@@ -91,6 +91,11 @@ class Site:
                     waiting.append(other)
         return chains[second]
 
+    def check_place(self, place):
+        """Raise NoPlace if a number is not the number of a place."""
+        if not 0 <= place < self.size:
+            raise NoPlace(place)
+
     def fits(self, heights):
         """Tell whether a list of heights is a shape."""
         if len(heights) != self.size:
@@ -105,10 +110,6 @@ class Site:
         if step is None:
             return False
         return self._limits[start][node] + step == self._limits[start][other]
-
-    def _check_place(self, place):
-        if not 0 <= place < self.size:
-            raise NoPlace(place)
 
     def _check_nodes(self, first, second):
         for node in (first, second):

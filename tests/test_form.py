@@ -19,8 +19,11 @@ __ge__ __ne__ __add__ __sub__ __mul__ __floordiv__ __mod__ __pow__ __and__ __or_
 __abs__ __bool__ __contains__ __getitem__ __setitem__""".split())
 BARRED_NODES = (ast.Global, ast.AsyncFunctionDef, ast.AsyncFor, ast.AsyncWith, ast.Await, ast.Div, ast.GeneratorExp,
                 ast.ClassDef)
-BARRED_WORDS = re.compile(r"\b(_wall|_WallAttr|typing|enum|Enum|namedtuple|NamedTuple|ABC|Protocol|Generic|Flag"
-                          r"|register|mro|elements|open|input|law|version_info|eval|exec|getattr|setattr|globals)\b")
+BARRED_WORDS = re.compile(r"\b(_wall|_WallAttr|typing|enum|Enum|namedtuple|NamedTuple|ABC|Protocol|Generic|Flag)\b"
+                          r"|\(type\)|Meta|metaclass=")
+# Strings may be such words: "open" is one that the document asks for.
+BARRED_NAMES = set("""register mro elements open input law version_info with_traceback add_note eval exec getattr
+setattr delattr hasattr globals locals vars type id dir sys os""".split())
 
 
 def trees():
@@ -29,12 +32,33 @@ def trees():
         yield path, text, ast.parse(text)
 
 
+def names_used(tree):
+    for node in ast.walk(tree):
+        if isinstance(node, ast.Name):
+            yield node.id
+        elif isinstance(node, ast.Attribute):
+            yield node.attr
+        elif isinstance(node, (ast.arg, ast.keyword)):
+            yield node.arg
+        elif isinstance(node, (ast.FunctionDef, ast.ClassDef, ast.alias)):
+            yield node.name
+
+
 def names_defined(tree):
     for node in tree.body:
         if isinstance(node, (ast.FunctionDef, ast.ClassDef)):
             yield node.name
         elif isinstance(node, ast.Assign):
             yield from (target.id for target in node.targets)
+
+
+def is_plain_number(node):
+    """Tell whether the code shows that a value, or each item of a list, is a number or a string."""
+    if isinstance(node, ast.ListComp):
+        return is_plain_number(node.elt)
+    if isinstance(node, ast.Call) and isinstance(node.func, ast.Name):
+        return node.func.id in ("len", "int", "ord", "str", "repr", "range")
+    return isinstance(node, ast.Constant)
 
 
 class FormTest(unittest.TestCase):
@@ -59,6 +83,7 @@ class FormTest(unittest.TestCase):
             with self.subTest(path.name):
                 self.assertEqual({letter for letter in text if not " " <= letter <= "~"}, {"\n"})
                 self.assertIsNone(BARRED_WORDS.search(text))
+                self.assertEqual(BARRED_NAMES & set(names_used(tree)), set())
                 for node in ast.walk(tree):
                     if isinstance(node, ast.Constant):
                         self.assertNotIsInstance(node.value, float)
@@ -111,6 +136,23 @@ class FormTest(unittest.TestCase):
                     self.assertIsInstance(node.ctx, ast.Load)
                 if isinstance(node, ast.arg):
                     self.assertNotIn(node.arg, every)
+
+    def test_classes_with_items_bar_iteration(self):
+        for path, _, tree in trees():
+            for node in tree.body:
+                if isinstance(node, ast.ClassDef):
+                    methods = {part.name for part in node.body if isinstance(part, ast.FunctionDef)}
+                    self.assertTrue("__getitem__" not in methods or "__iter__" in methods, node.name)
+
+    def test_ordering_takes_plain_numbers(self):
+        # Bounds have <= but no <, so that what is put in order must plainly be a number.
+        for path, _, tree in trees():
+            for node in ast.walk(tree):
+                if isinstance(node, ast.Attribute):
+                    self.assertNotEqual(node.attr, "sort", path.name)
+                if isinstance(node, ast.Call) and isinstance(node.func, ast.Name):
+                    if node.func.id in ("sorted", "min", "max"):
+                        self.assertTrue(any(is_plain_number(part) for part in node.args), ast.unparse(node))
 
 
 if __name__ == "__main__":

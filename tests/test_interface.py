@@ -11,6 +11,17 @@ FUNCTIONS = {
         "farthest_foot": "(length, height)",
         "joined_length": "(*lengths)",
     },
+    "trials": {
+        "misread_numbers": "(trials, heights)",
+        "pinned": "(place, height)",
+    },
+    "misread": {
+        "fewest_misread": "(site, trials, *, sure=())",
+        "find_blames": "(site, trials, *, sure=())",
+        "find_suspects": "(site, trials, *, sure=())",
+        "best_shape": "(site, trials, *, sure=())",
+        "trust": "(site, trials, number, *, misreads=0)",
+    },
 }
 
 CLASSES = {
@@ -68,6 +79,33 @@ CLASSES = {
             "fits": "(self, heights)",
         },
     },
+    "trials": {
+        "Trial": {
+            "__init__": "(self, place, height, reached)",
+            "leant": "(place, ladder, foot, reached)",
+            "agrees": "(self, heights)",
+            "__invert__": "(self)",
+            "__eq__": "(self, other)",
+            "__str__": "(self)",
+        },
+    },
+    "bounds": {
+        "Bounds": {
+            "__init__": "(self, site, trials=())",
+            "lows": "(self)",
+            "highs": "(self)",
+            "as_trials": "(self)",
+            "high_paper": "(self, place)",
+            "low_paper": "(self, place)",
+            "__getitem__": "(self, place)",
+            "__len__": "(self)",
+            "__contains__": "(self, heights)",
+            "__and__": "(self, other)",
+            "__or__": "(self, other)",
+            "__le__": "(self, other)",
+            "__eq__": "(self, other)",
+        },
+    },
 }
 
 
@@ -96,8 +134,9 @@ class InterfaceTest(unittest.TestCase):
                         self.assertIn(method, vars(kind))
                         self.assertEqual(str(inspect.signature(getattr(kind, method))), signature)
 
-    def test_class_method(self):
+    def test_class_methods(self):
         self.assertIsInstance(vars(module_of("sites").Site)["plain"], classmethod)
+        self.assertIsInstance(vars(module_of("trials").Trial)["leant"], classmethod)
 
 
 if __name__ == "__main__":

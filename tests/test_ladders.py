@@ -4,21 +4,13 @@ import random
 import unittest
 from itertools import combinations
 
+from samples import HUGE, ErrorChecks
+
 from rungbounds.errors import BadName, BadNumber, TakenName, TooMany, UnknownName
 from rungbounds.ladders import Ladder, Rack, farthest_foot, joined_length, reach
 
-HUGE = 10**40 - 1
 # Lengths of 40 digits, among them hypotenuses of whole triangles and their neighbours.
 LONG = [HUGE, 10**39, 10**39 + 7, 5 * 10**38, 5 * 10**38 - 1, 5 * 10**38 + 1, 1234567890123456789012345678901234567891]
-
-
-class ErrorChecks(unittest.TestCase):
-    def assert_raises(self, error, worth, call, *args, **kwargs):
-        """Check that the call raises this very error, with this one attribute."""
-        with self.assertRaises(error) as caught:
-            call(*args, **kwargs)
-        self.assertIs(caught.exception.__class__, error)
-        self.assertEqual(list(vars(caught.exception).values()), [worth])
 
 
 class ReachTest(ErrorChecks):

@@ -4,124 +4,25 @@ import random
 import unittest
 from itertools import product
 
+from samples import (
+    HUGE,
+    ErrorChecks,
+    drawn_links,
+    drawn_walls,
+    fitting_links,
+    is_shape,
+    large_site,
+    least_sums,
+    shapes_of,
+    told_of,
+    told_rows,
+)
+
 from rungbounds.errors import BadName, BadNumber, NoPlace, NoSite, TakenName, TooMany, UnknownName
 from rungbounds.sites import GROUND, Site
 
-HUGE = 10**40 - 1
 
-
-def told_rows(walls, links):
-    """List all told limits of point [10] as tuples (from, to, limit)."""
-    rows = []
-    place = 0
-    for _, top, slope, spans in walls:
-        for at in range(len(spans) + 1):
-            rows.append((-1, place, top))
-            rows.append((place, -1, 0))
-            if at < len(spans):
-                rows.append((place, place + 1, slope * spans[at]))
-                rows.append((place + 1, place, slope * spans[at]))
-            place += 1
-    for first, second, least, most in links:
-        rows.append((first, second, most))
-        rows.append((second, first, -least))
-    return rows
-
-
-def told_of(walls, links):
-    """Return a dict of the least told limits."""
-    least = {}
-    for first, second, most in told_rows(walls, links):
-        least[first, second] = min(most, least.get((first, second), most))
-    return least
-
-
-def is_shape(walls, links, heights):
-    """Tell by the words of point [9] whether a list of heights is a shape."""
-    place = 0
-    for _, top, slope, spans in walls:
-        own = heights[place:place + len(spans) + 1]
-        if len(own) != len(spans) + 1 or min(own) < 0 or max(own) > top:
-            return False
-        for at, span in enumerate(spans):
-            if abs(own[at] - own[at + 1]) > slope * span:
-                return False
-        place += len(own)
-    if place != len(heights):
-        return False
-    return all(least <= heights[second] - heights[first] <= most for first, second, least, most in links)
-
-
-def shapes_of(walls, links):
-    """List all shapes."""
-    heights = [range(top + 1) for _, top, _, spans in walls for _ in range(len(spans) + 1)]
-    return [list(row) for row in product(*heights) if is_shape(walls, links, row)]
-
-
-def least_sums(size, told, start):
-    """Return the least sums of told limits from one node to all others."""
-    sums = {start: 0}
-    for _ in range(size + 1):
-        for (first, second), most in told.items():
-            if first in sums and sums[first] + most < sums.get(second, sums[first] + most + 1):
-                sums[second] = sums[first] + most
-    return sums
-
-
-def drawn_walls(draw, most_places, most_top):
-    """Draw walls with at most this many places in all."""
-    walls = []
-    left = draw.randint(1, most_places)
-    while left:
-        places = draw.randint(1, left)
-        spans = tuple(draw.randint(1, 3) for _ in range(places - 1))
-        walls.append(("ab" + "cdefghijklmnopqrstuvwxyz"[len(walls)], draw.randint(0, most_top), draw.randint(0, 2), spans))
-        left -= places
-    return walls
-
-
-def drawn_links(draw, size, count, most_gap):
-    """Draw links of which many sites have no shape."""
-    links = []
-    while size > 1 and len(links) < count:
-        first, second = draw.sample(range(size), 2)
-        least = draw.randint(-most_gap, most_gap)
-        links.append((first, second, least, least + draw.randint(0, 2)))
-    return links
-
-
-def fitting_links(draw, heights, count, room):
-    """Draw links that these heights keep."""
-    links = []
-    for _ in range(count):
-        first, second = draw.sample(range(len(heights)), 2)
-        gap = heights[second] - heights[first]
-        links.append((first, second, gap - draw.randint(0, room), gap + draw.randint(0, room)))
-    return links
-
-
-def large_site(draw, unit):
-    """Return walls and links with 24 places and 40 links, kept by one drawn shape."""
-    walls, heights = [], []
-    for name in ("north", "east", "south", "west"):
-        slope = draw.randint(0, unit)
-        spans = tuple(draw.randint(1, 4) for _ in range(5))
-        own = [draw.randint(0, 10 * unit)]
-        for span in spans:
-            own.append(max(0, own[-1] + draw.randint(-slope * span, slope * span)))
-        walls.append((name, max(own) + draw.randint(0, unit), slope, spans))
-        heights.extend(own)
-    return walls, fitting_links(draw, heights, 40, unit), heights
-
-
-class SiteChecks(unittest.TestCase):
-    def assert_raises(self, error, worth, call, *args, **kwargs):
-        """Check that the call raises this very error, with this one attribute."""
-        with self.assertRaises(error) as caught:
-            call(*args, **kwargs)
-        self.assertIs(caught.exception.__class__, error)
-        self.assertEqual(list(vars(caught.exception).values()), [worth])
-
+class SiteChecks(ErrorChecks):
     def assert_chain(self, site, told, first, second):
         """Check that a chain derives the limit."""
         chain = site.chain(first, second)
