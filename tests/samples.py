@@ -127,6 +127,14 @@ def small_site(draw, most_places, most_top, most_links):
             return walls, links, shapes
 
 
+def reached(place, height):
+    return Trial(place, height, True)
+
+
+def missed(place, height):
+    return Trial(place, height, False)
+
+
 def drawn_trials(draw, size, count, top):
     """Draw trials at a site of so many places, some of them equal."""
     trials = []

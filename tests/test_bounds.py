@@ -13,6 +13,8 @@ from samples import (
     large_site,
     least_sums,
     misreads_of,
+    missed,
+    reached,
     shapes_of,
     small_site,
     time_limit,
@@ -28,14 +30,6 @@ from rungbounds.trials import Trial
 
 WALLS = [("a", 9, 2, (1,)), ("b", 9, 9, ())]
 LINKS = [(1, 2, 0, 3)]
-
-
-def reached(place, height):
-    return Trial(place, height, True)
-
-
-def missed(place, height):
-    return Trial(place, height, False)
 
 
 def columns(shapes):

@@ -13,6 +13,8 @@ from samples import (
     is_shape,
     large_site,
     misreads_of,
+    missed,
+    reached,
     shapes_of,
     small_site,
     time_limit,
@@ -23,17 +25,8 @@ from samples import (
 from rungbounds.errors import BadNumber, NoPlace, NoShape
 from rungbounds.misread import best_shape, fewest_misread, find_blames, find_suspects, trust
 from rungbounds.sites import Site
-from rungbounds.trials import Trial
 
 FOUR = (fewest_misread, find_blames, find_suspects, best_shape)
-
-
-def reached(place, height):
-    return Trial(place, height, True)
-
-
-def missed(place, height):
-    return Trial(place, height, False)
 
 
 def fewest_by_sets(shapes, trials):
