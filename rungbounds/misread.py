@@ -29,7 +29,7 @@ def find_blames(site, trials, *, sure=()):
     if odds is None:
         return None
     alone, rivals = odds
-    return [(number,) for number in alone] + list(_most_pairs(rivals).items())
+    return [(number,) for number in alone] + list(most_pairs(rivals).items())
 
 
 def find_suspects(site, trials, *, sure=()):
@@ -38,7 +38,7 @@ def find_suspects(site, trials, *, sure=()):
     if odds is None:
         return None
     alone, rivals = odds
-    chosen = alone + _one_of_each(rivals, _most_pairs(rivals))
+    chosen = alone + _one_of_each(rivals, most_pairs(rivals))
     return [number for number in range(len(trials)) if number in chosen]
 
 
@@ -62,9 +62,9 @@ def trust(site, trials, number, *, misreads=0):
     judged = trials[number]
     others = [trial for at, trial in enumerate(trials) if at != number]
     # A shape that agrees with the opposite misreads the trial itself.
-    if not _is_left(site, others, ~judged, misreads - 1):
+    if not leaves_shape(site, others, misreads - 1, [~judged]):
         return "right"
-    if not _is_left(site, others, judged, misreads):
+    if not leaves_shape(site, others, misreads, [judged]):
         return "wrong"
     return "open"
 
@@ -74,6 +74,12 @@ def check_shape_left(site, trials, misreads):
     blames = find_blames(site, trials)
     if len(blames) > misreads:
         raise NoShape(blames)
+
+
+def leaves_shape(site, trials, misreads, sure):
+    """Tell whether a shape that agrees with `sure` misreads at most `misreads` of the trials."""
+    fewest = fewest_misread(site, trials, sure=sure)
+    return fewest is not None and fewest <= misreads
 
 
 def find_edges(site, trials):
@@ -119,56 +125,61 @@ def _high_edge(site, trials, place):
     return edge
 
 
-def _is_left(site, others, trial, most):
-    """Tell whether a shape agrees with a trial and misreads at most so many others."""
-    fewest = fewest_misread(site, others, sure=[trial])
-    return fewest is not None and fewest <= most
+def alone_between(trials, lows, highs):
+    """Return the numbers of the trials that every shape between these two shapes misreads."""
+    # If any shape agrees with a reached trial, the lowest one does; with a missed one, the highest.
+    return [
+        number
+        for number, trial in enumerate(trials)
+        if not trial.agrees(lows if trial.reached else highs)
+    ]
+
+
+def rivals_among(site, trials):
+    """Return a dict from the number of each missed trial to the list of its rivals.
+
+    Its rivals are the numbers of the reached trials that are at odds with it: no shape
+    agrees with both. The limit between their places may lead by the ground, or what is
+    surely known may make such a way shorter. This needs no look here: it makes two rings,
+    each with one of the trials, so that one of them is misread by every shape.
+    """
+    reached = [number for number, trial in enumerate(trials) if trial.reached]
+    return {
+        number: [other for other in reached if _are_rivals(site, trial, trials[other])]
+        for number, trial in enumerate(trials)
+        if not trial.reached
+    }
+
+
+def rivals_without(rivals, left_out):
+    """Return the rivals among the trials whose numbers are not left out."""
+    return {
+        number: [other for other in others if other not in left_out]
+        for number, others in rivals.items()
+        if number not in left_out
+    }
+
+
+def _are_rivals(site, missed, reached):
+    return reached.height + site.limit(reached.place, missed.place) <= missed.height
 
 
 def _find_odds(site, trials, sure):
     """Return which trials are at odds among the shapes that agree with `sure`, or None.
 
-    The first part is the list of the trials that every such shape misreads. The second
-    one is a dict from each other missed trial to the list of its rivals: the other
-    reached trials of which no shape agrees with both. It is None if there is no shape.
+    The first part is the list of the trials that every such shape misreads, the second one
+    are the rivals among the others. It is None if there is no such shape.
     """
     check_places(site, trials)
     check_places(site, sure)
     edges = find_edges(site, sure)
     if edges is None:
         return None
-    lows, highs = heights_of(edges[0]), heights_of(edges[1])
-    # If any shape agrees with a reached trial, the lowest one does; with a missed one, the highest.
-    alone = [
-        number
-        for number, trial in enumerate(trials)
-        if not trial.agrees(lows if trial.reached else highs)
-    ]
-    rest = [number for number in range(len(trials)) if number not in alone]
-    rivals = {
-        number: _rivals_of(site, trials, trials[number], rest)
-        for number in rest
-        if not trials[number].reached
-    }
-    return alone, rivals
+    alone = alone_between(trials, heights_of(edges[0]), heights_of(edges[1]))
+    return alone, rivals_without(rivals_among(site, trials), alone)
 
 
-def _rivals_of(site, trials, missed, numbers):
-    """Return those of the numbered trials that are reached and at odds with a missed one.
-
-    The limit between their places may lead by the ground, or `sure` may make such a way
-    shorter. This needs no look here: it makes two rings, each with one of the trials, so
-    that a trial on a ring with a negative sum would be misread by every shape.
-    """
-    return [
-        number
-        for number in numbers
-        if trials[number].reached
-        and trials[number].height + site.limit(trials[number].place, missed.place) <= missed.height
-    ]
-
-
-def _most_pairs(rivals):
+def most_pairs(rivals):
     """Return as many pairs of rivals as there can be, as a dict from missed to reached."""
     pairs = {}
     for missed in rivals:

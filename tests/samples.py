@@ -127,6 +127,14 @@ def small_site(draw, most_places, most_top, most_links):
             return walls, links, shapes
 
 
+def wide_site(draw, most_links):
+    """Return walls, links and shapes of a drawn site whose places have much room."""
+    walls = [("a", 10, draw.randint(1, 10), (1,) * draw.randint(0, 1)), ("b", 8, 0, ())]
+    size = len(walls[0][3]) + 2
+    links = [(*draw.sample(range(size), 2), -draw.randint(0, 8), draw.randint(0, 8)) for _ in range(most_links)]
+    return walls, links, shapes_of(walls, links)
+
+
 def reached(place, height):
     return Trial(place, height, True)
 
@@ -165,6 +173,32 @@ def misreads_of(trials, heights):
 def agreeing(shapes, trials):
     """List those of the shapes that agree with all trials."""
     return [heights for heights in shapes if not misreads_of(trials, heights)]
+
+
+def allowed(shapes, trials, misreads=0):
+    """List those of the shapes that misread at most so many trials."""
+    return [heights for heights in shapes if len(misreads_of(trials, heights)) <= misreads]
+
+
+def fewest_of(shapes, trials):
+    """Return the least number of trials that one of the shapes misreads."""
+    return min(len(misreads_of(trials, heights)) for heights in shapes)
+
+
+def runs_of(numbers):
+    """Return the runs of neighbouring numbers as tuples (least, greatest), ascending."""
+    runs = []
+    for number in sorted(set(numbers)):
+        if runs and runs[-1][1] == number - 1:
+            runs[-1] = (runs[-1][0], number)
+        else:
+            runs.append((number, number))
+    return runs
+
+
+def rows_of(trials):
+    """Return trials as tuples, which can be compared and shown."""
+    return [(trial.place, trial.height, trial.reached) for trial in trials]
 
 
 def with_trials(told, trials):
@@ -224,7 +258,7 @@ class ErrorChecks(unittest.TestCase):
             call(*args, **kwargs)
         self.assertIs(caught.exception.__class__, NoShape)
         self.assert_blames(shapes, trials, caught.exception.blames)
-        self.assertEqual(len(caught.exception.blames), min(len(misreads_of(trials, heights)) for heights in shapes))
+        self.assertEqual(len(caught.exception.blames), fewest_of(shapes, trials))
 
     def assert_blames(self, shapes, trials, blames):
         """Check by a listing of shapes that these are blames without a common trial."""

@@ -22,6 +22,17 @@ FUNCTIONS = {
         "best_shape": "(site, trials, *, sure=())",
         "trust": "(site, trials, number, *, misreads=0)",
     },
+    "heights": {
+        "stretches": "(site, trials, place, *, misreads=0, sure=())",
+        "within": "(site, trials, place, height, *, misreads=0)",
+        "sure_foot": "(site, trials, place, length, *, misreads=0)",
+        "never_foot": "(site, trials, place, length, *, misreads=0)",
+        "shortest_sure": "(site, trials, place, rack, *, foot=0, misreads=0, most=1)",
+    },
+    "listing": {
+        "next_shape": "(site, trials, heights=None, *, misreads=0)",
+        "fitting": "(site, trials, *, misreads=0, most=20)",
+    },
 }
 
 CLASSES = {
@@ -105,6 +116,22 @@ CLASSES = {
             "__le__": "(self, other)",
             "__eq__": "(self, other)",
         },
+    },
+    "wishes": {
+        "Wish": {
+            "__init__": "(self, size=1)",
+            "cases": "(self)",
+            "answer": "(self, heights)",
+            "places": "(self)",
+            "possible": "(self, site, trials, *, misreads=0)",
+            "settled": "(self, site, trials, *, misreads=0)",
+            "witness": "(self, site, trials, answer, *, misreads=0)",
+            "__and__": "(self, other)",
+        },
+        "AllWithin": {"__init__": "(self, *pairs)", "cases": "(self)", "places": "(self)"},
+        "SomeWithin": {"__init__": "(self, *pairs)", "cases": "(self)", "places": "(self)"},
+        "Band": {"__init__": "(self, place, *cuts)", "cases": "(self)", "places": "(self)"},
+        "Both": {"__init__": "(self, first, second)", "cases": "(self)", "places": "(self)"},
     },
 }
 
