@@ -70,17 +70,17 @@ class Site:
 
     def told(self, first, second):
         """Return the least told limit from one node to another, or None."""
-        self._check_nodes(first, second)
+        self.check_nodes(first, second)
         return self._told.get((first, second))
 
     def limit(self, first, second):
         """Return the greatest height of the second node above the first one."""
-        self._check_nodes(first, second)
+        self.check_nodes(first, second)
         return self._limits[first][second]
 
     def chain(self, first, second):
         """Return nodes from the first to the second whose told limits give the limit."""
-        self._check_nodes(first, second)
+        self.check_nodes(first, second)
         chains = {first: [first]}
         waiting = [first]
         while second not in chains:
@@ -96,6 +96,12 @@ class Site:
         if not 0 <= place < self.size:
             raise NoPlace(place)
 
+    def check_nodes(self, *nodes):
+        """Raise NoPlace for the first number that is not the number of a node."""
+        for node in nodes:
+            if not GROUND <= node < self.size:
+                raise NoPlace(node)
+
     def fits(self, heights):
         """Tell whether a list of heights is a shape."""
         if len(heights) != self.size:
@@ -110,11 +116,6 @@ class Site:
         if step is None:
             return False
         return self._limits[start][node] + step == self._limits[start][other]
-
-    def _check_nodes(self, first, second):
-        for node in (first, second):
-            if not GROUND <= node < self.size:
-                raise NoPlace(node)
 
 
 def _check_rows(rows):

@@ -7,6 +7,7 @@ from itertools import product
 
 from rungbounds.errors import NoShape
 from rungbounds.trials import Trial
+from rungbounds.wishes import AllWithin, Band, Both, SomeWithin, Wish
 
 HUGE = 10**40 - 1
 
@@ -199,6 +200,131 @@ def runs_of(numbers):
 def rows_of(trials):
     """Return trials as tuples, which can be compared and shown."""
     return [(trial.place, trial.height, trial.reached) for trial in trials]
+
+
+def drawn_pairs(draw, size, top, most):
+    return [(draw.randrange(size), draw.randint(-1, top)) for _ in range(draw.randint(0, most))]
+
+
+def drawn_band(draw, size, top, most):
+    cuts = sorted(draw.sample(range(-1, top + 1), draw.randint(0, most)))
+    return draw.randrange(size), cuts
+
+
+def drawn_wish(draw, size, top, depth=2):
+    """Draw a wish; return it with a function that answers by the words of point [25]."""
+    kind = draw.randrange(5 if depth else 4)
+    if kind == 0:
+        return Wish(), lambda heights: 0
+    if kind == 1:
+        pairs = drawn_pairs(draw, size, top, 3)
+        return AllWithin(*pairs), lambda heights: int(all(heights[place] <= height for place, height in pairs))
+    if kind == 2:
+        some = drawn_pairs(draw, size, top, 3)
+        return SomeWithin(*some), lambda heights: int(any(heights[place] <= height for place, height in some))
+    if kind == 3:
+        place, cuts = drawn_band(draw, size, top, 3)
+        return Band(place, *cuts), lambda heights: sum(cut < heights[place] for cut in cuts)
+    first, answer_first = drawn_wish(draw, size, top, depth - 1)
+    second, answer_second = drawn_wish(draw, size, top, depth - 1)
+    both = Both(first, second) if draw.random() < 0.5 else first & second
+    return both, lambda heights: answer_first(heights) * second.size + answer_second(heights)
+
+
+class StateListing:
+    """What points [28] to [32] say of the states of a menu, by a listing of all shapes."""
+
+    def __init__(self, shapes, trials, answer, menu, misreads=0):
+        self.shapes, self.trials, self.answer = shapes, list(trials), answer
+        self.menu, self.misreads = list(menu), misreads
+        self.start = "." * len(menu)
+        self.states = ["".join(signs) for signs in product(".rm", repeat=len(menu))]
+        self.seen, self.ways = {}, {}
+
+    def trials_of(self, state):
+        tried = [Trial(*self.menu[at], sign == "r") for at, sign in enumerate(state) if sign != "."]
+        return self.trials + tried
+
+    def left(self, state):
+        return allowed(self.shapes, self.trials_of(state), self.misreads)
+
+    def answers(self, state):
+        if state not in self.seen:
+            self.seen[state] = sorted({self.answer(heights) for heights in self.left(state)})
+        return self.seen[state]
+
+    def results(self, state):
+        """Return for each entry that is not tried the states reached and missed."""
+        return {
+            at: [state[:at] + sign + state[at + 1:] for sign in "rm"]
+            for at, old in enumerate(state)
+            if old == "."
+        }
+
+    def fewest(self, state):
+        """Search all ways to choose from a state that is not impossible."""
+        if state not in self.ways:
+            counts = [self.fewest_by(state, entry) for entry in self.results(state)]
+            counts = [count for count in counts if count is not None]
+            self.ways[state] = 0 if len(self.answers(state)) == 1 else min(counts, default=None)
+        return self.ways[state]
+
+    def fewest_by(self, state, entry):
+        """Return the fewest trials if this entry is tried first."""
+        counts = [self.fewest(result) for result in self.results(state)[entry] if self.answers(result)]
+        return None if None in counts else 1 + max(counts)
+
+    def best(self, state):
+        if self.fewest(state) in (None, 0):
+            return None
+        return min(at for at in self.results(state) if self.fewest_by(state, at) == self.fewest(state))
+
+    def plan_length(self, state, plan):
+        """Return the length of what may be a plan for a state, or None."""
+        answers = self.answers(state)
+        if plan == ("impossible",):
+            return 0 if not answers else None
+        if isinstance(plan, tuple) and len(plan) == 2 and plan[0] == "settled":
+            return 0 if answers == [plan[1]] else None
+        if not isinstance(plan, tuple) or len(plan) != 4 or plan[0] != "try" or plan[1] not in self.results(state):
+            return None
+        lengths = [self.plan_length(*both) for both in zip(self.results(state)[plan[1]], plan[2:])]
+        return None if None in lengths else 1 + max(lengths)
+
+    def is_book(self, book):
+        """Tell whether a dict is a stall book."""
+        for state, number in book.items():
+            if state not in self.states or number < 1 or len(self.answers(state)) < 2:
+                return False
+            for results in self.results(state).values():
+                good = [
+                    self.answers(result) and (number == 1 or book.get(result, 0) >= number - 1)
+                    for result in results
+                ]
+                if not any(good):
+                    return False
+        return True
+
+
+def drawn_game(draw, most_entries):
+    """Draw a site, trials, a wish, a menu and an allowance; return them with the listing of states.
+
+    Most starts are not settled, and most menus have entries at the edges of the answers.
+    """
+    while True:
+        walls, links, shapes = wide_site(draw, draw.randint(0, 2)) if draw.random() < 0.7 else small_site(draw, 3, 5, 1)
+        size = len(shapes[0])
+        wish, answer = drawn_wish(draw, size, 7, 1)
+        trials = drawn_trials(draw, size, draw.randint(0, 3), 7)
+        edges = [(trial.place, trial.height) for _, case in wish.cases() for trial in case] or [(0, 3)]
+        edges = draw.sample(edges, min(len(edges), draw.randint(1, 4)))
+        menu = [draw.choice(edges) for _ in range(draw.randint(0, most_entries))]
+        if draw.random() < 0.3:
+            menu = [(place, height + draw.randint(-1, 1)) for place, height in menu]
+        misreads = draw.choice([0, 0, 1, 1, 2])
+        listing = StateListing(shapes, trials, answer, menu, misreads)
+        if len(listing.answers(listing.start)) > 1 or draw.random() < 0.2:
+            return walls, links, trials, wish, menu, misreads, listing
 
 
 def with_trials(told, trials):

@@ -144,6 +144,40 @@ class FormTest(unittest.TestCase):
                     methods = {part.name for part in node.body if isinstance(part, ast.FunctionDef)}
                     self.assertTrue("__getitem__" not in methods or "__iter__" in methods, node.name)
 
+    def test_names_of_methods_and_attributes_keep_apart(self):
+        plain, others, attributes = set(), set(), set()
+        for _, _, tree in trees():
+            for node in ast.walk(tree):
+                if isinstance(node, ast.ClassDef):
+                    for part in node.body:
+                        if isinstance(part, ast.FunctionDef):
+                            (others if part.decorator_list else plain).add(part.name)
+                        else:
+                            others |= {target.id for target in getattr(part, "targets", [])}
+                if isinstance(node, ast.Attribute) and isinstance(node.ctx, ast.Store):
+                    attributes.add(node.attr)
+        self.assertEqual(plain & others, set())
+        self.assertEqual(plain & attributes, set())
+        # The property that can be assigned is assigned by callers only.
+        self.assertEqual(others & attributes, set())
+
+    def test_local_names_are_no_imports_and_no_classes(self):
+        for path, _, tree in trees():
+            taken = {name.name for node in tree.body if isinstance(node, ast.ImportFrom) for name in node.names}
+            taken |= {node.name for node in tree.body if isinstance(node, ast.ClassDef)}
+            for node in ast.walk(tree):
+                if isinstance(node, ast.arg):
+                    self.assertNotIn(node.arg, taken, path.name)
+                if isinstance(node, ast.Name) and isinstance(node.ctx, ast.Store):
+                    self.assertNotIn(node.id, taken, path.name)
+
+    def test_sets_are_not_used(self):
+        # Where the order of a set could be seen is hard to tell, so that dicts stand instead.
+        for path, _, tree in trees():
+            for node in ast.walk(tree):
+                self.assertNotIsInstance(node, (ast.Set, ast.SetComp), path.name)
+                self.assertFalse(isinstance(node, ast.Name) and node.id == "set", path.name)
+
     def test_ordering_takes_plain_numbers(self):
         # Bounds have <= but no <, so that what is put in order must plainly be a number.
         for path, _, tree in trees():

@@ -374,6 +374,9 @@ class ShortestSureTest(ErrorChecks):
         site = Site.plain(1, 50, 0)
         trials = [reached(0, 6)]
         self.assertEqual(shortest_sure(site, trials, 0, RACK), ["cedar"])
+        # The foot that is left out is 0: from the foot 1 the ladder reaches 6.
+        self.assertEqual(shortest_sure(site, [reached(0, 7)], 0, RACK), ["cedar"])
+        self.assertEqual(shortest_sure(site, [reached(0, 7)], 0, RACK, foot=1), [])
         self.assertEqual(shortest_sure(site, trials, 0, RACK, most=1, foot=0), ["cedar"])
         self.assertEqual(shortest_sure(site, trials, 0, RACK, foot=4), [])
         self.assertEqual(shortest_sure(site, trials, 0, RACK, foot=4, most=2), ["birch", "cedar"])

@@ -33,6 +33,22 @@ FUNCTIONS = {
         "next_shape": "(site, trials, heights=None, *, misreads=0)",
         "fitting": "(site, trials, *, misreads=0, most=20)",
     },
+    "papers": {
+        "chain_sum": "(site, chain)",
+        "check_shape": "(site, trials, heights, *, misreads=0, sure=())",
+        "check_blames": "(site, trials, blames, *, sure=())",
+        "height_paper": "(site, trials, place, height, *, misreads=0)",
+        "check_height": "(site, trials, place, height, paper, *, misreads=0)",
+        "check_plan": "(site, trials, wish, menu, plan, *, misreads=0)",
+        "check_stall": "(site, trials, wish, menu, book, *, misreads=0)",
+        "check_twins": "(site, trials, wish, menu, twins, *, misreads=0)",
+    },
+    "notation": {
+        "write_site": "(site)",
+        "write_trials": "(trials)",
+        "read_site": "(text)",
+        "read_trials": "(text)",
+    },
 }
 
 CLASSES = {
@@ -133,7 +149,49 @@ CLASSES = {
         "Band": {"__init__": "(self, place, *cuts)", "cases": "(self)", "places": "(self)"},
         "Both": {"__init__": "(self, first, second)", "cases": "(self)", "places": "(self)"},
     },
+    "plans": {
+        "Planner": {
+            "__init__": "(self, site, trials, wish, menu, *, misreads=0)",
+            "start": "(self)",
+            "after": "(self, state, number, reached)",
+            "trials_of": "(self, state)",
+            "answers": "(self, state=None)",
+            "fewest": "(self, state=None)",
+            "best": "(self, state=None)",
+            "plan": "(self, state=None)",
+            "stall": "(self)",
+            "twins": "(self)",
+        },
+    },
+    "crew": {
+        "Crew": {
+            "__init__": "(self, site, **lengths)",
+            "replayed": "(site, rows, **lengths)",
+            "put_ladder": "(self, name, length)",
+            "put_mark": "(self, name, place)",
+            "record": "(self, mark, reached, *names, foot=0)",
+            "forget": "(self, number)",
+            "change": "(self, name, value)",
+            "do": "(self, row)",
+            "run": "(self, rows)",
+            "undo": "(self)",
+            "redo": "(self)",
+            "steps": "(self)",
+            "history": "(self)",
+            "marks": "(self)",
+            "ladders": "(self)",
+            "reaches": "(self, mark, *names, foot=0)",
+            "stretches_of": "(self, mark)",
+            "advise": "(self, wish, menu)",
+            "__getitem__": "(self, name)",
+            "__setitem__": "(self, name, place)",
+            "__contains__": "(self, name)",
+            "__len__": "(self)",
+        },
+    },
 }
+
+PROPERTIES = {"misreads": True, "recorded": False, "needed": False}
 
 
 def module_of(name):
@@ -164,6 +222,18 @@ class InterfaceTest(unittest.TestCase):
     def test_class_methods(self):
         self.assertIsInstance(vars(module_of("sites").Site)["plain"], classmethod)
         self.assertIsInstance(vars(module_of("trials").Trial)["leant"], classmethod)
+        self.assertIsInstance(vars(module_of("crew").Crew)["replayed"], classmethod)
+
+    def test_properties(self):
+        for name, can_be_assigned in PROPERTIES.items():
+            found = vars(module_of("crew").Crew)[name]
+            self.assertIsInstance(found, property)
+            self.assertEqual(found.fset is not None, can_be_assigned)
+
+    def test_base_classes(self):
+        wishes = module_of("wishes")
+        for name in ("AllWithin", "SomeWithin", "Band", "Both"):
+            self.assertTrue(issubclass(getattr(wishes, name), wishes.Wish))
 
 
 if __name__ == "__main__":

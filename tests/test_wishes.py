@@ -9,6 +9,7 @@ from samples import (
     ErrorChecks,
     allowed,
     drawn_trials,
+    drawn_wish,
     fewest_of,
     has_shape,
     is_shape,
@@ -37,35 +38,6 @@ LINKS = [(1, 2, 0, 3)]
 
 def rows_of_cases(wish):
     return [(answer, rows_of(trials)) for answer, trials in wish.cases()]
-
-
-def drawn_pairs(draw, size, top, most):
-    return [(draw.randrange(size), draw.randint(-1, top)) for _ in range(draw.randint(0, most))]
-
-
-def drawn_band(draw, size, top, most):
-    cuts = sorted(draw.sample(range(-1, top + 1), draw.randint(0, most)))
-    return draw.randrange(size), cuts
-
-
-def drawn_wish(draw, size, top, depth=2):
-    """Draw a wish; return it with a function that answers by the words of point [25]."""
-    kind = draw.randrange(5 if depth else 4)
-    if kind == 0:
-        return Wish(), lambda heights: 0
-    if kind == 1:
-        pairs = drawn_pairs(draw, size, top, 3)
-        return AllWithin(*pairs), lambda heights: int(all(heights[place] <= height for place, height in pairs))
-    if kind == 2:
-        some = drawn_pairs(draw, size, top, 3)
-        return SomeWithin(*some), lambda heights: int(any(heights[place] <= height for place, height in some))
-    if kind == 3:
-        place, cuts = drawn_band(draw, size, top, 3)
-        return Band(place, *cuts), lambda heights: sum(cut < heights[place] for cut in cuts)
-    first, answer_first = drawn_wish(draw, size, top, depth - 1)
-    second, answer_second = drawn_wish(draw, size, top, depth - 1)
-    both = Both(first, second) if draw.random() < 0.5 else first & second
-    return both, lambda heights: answer_first(heights) * second.size + answer_second(heights)
 
 
 class KindChecks(ErrorChecks):
